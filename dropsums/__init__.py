@@ -1,0 +1,1 @@
+"""Dropsums: pots of drops that reckon in whatever order, and papers that they do."""

@@ -1,0 +1,22 @@
+"""Whole numbers, and tuples of them."""
+
+
+def is_whole(thing):
+    # Python counts True as 1; here a truth is no number.
+    return isinstance(thing, int) and not isinstance(thing, bool)
+
+
+def is_whole_within(thing, low, high):
+    return is_whole(thing) and low <= thing <= high
+
+
+def are_counts(many, thing):
+    """Whether it is a tuple of so many whole numbers from 0 on."""
+    if not isinstance(thing, tuple) or len(thing) != many:
+        return False
+    return all([is_whole(count) and count >= 0 for count in thing])
+
+
+def are_counts_to(high, many, thing):
+    """Whether it is a tuple of so many whole numbers from 0 to high."""
+    return are_counts(many, thing) and all([count <= high for count in thing])

@@ -1,0 +1,108 @@
+"""What several tests share: pots to try things on, and wrong things to put into them."""
+
+import copy
+
+# Of two inputs the lesser, by one rule; what is left over stays.
+LESSER = (("a", "b", "c"), (((1, 1, 0), (0, 0, 1)),), (0, 1), (0, 0, 0), 2)
+
+# A half: two drops become one.
+HALF = (("x", "y"), (((2, 0), (0, 1)),), (0,), (0, 0), 1)
+
+# Three rules; the second one takes a drop of the answer's sort and gives it again.
+HELPED = (
+    ("from", "help", "done"),
+    (((2, 0, 0), (0, 1, 0)), ((0, 1, 1), (1, 0, 1)), ((0, 0, 3), (0, 9, 0))),
+    (2, 0),
+    (7, 0, 99),
+    2,
+)
+
+# No rules, no inputs.
+STILL = (("only",), (), (), (5,), 0)
+
+# As large as pots may be.
+LARGE = (
+    ("a", "bb", "ccc", "dddd", "eeeee", "ffffff", "ggggggg", "hhhhhhhh"),
+    tuple(((k + 1,) * 8, (k,) * 8) for k in range(8)),
+    (7, 0, 3),
+    (99,) * 8,
+    7,
+)
+
+POTS = (LESSER, HALF, HELPED, STILL, LARGE)
+
+ODD_THINGS = (
+    None, True, False, -1, 10 ** 39, "", "a", "0", "a b", "sorts", [], (), {}, [1], (1,), {"a": 1}, {1: (2,)},
+    ((),), [[]], (None,), ("a",), ("a", "b"), ((1, 0), (0, 1)), "\n",
+)
+
+
+def random_name(chance):
+    while True:
+        name = "".join(chance.choice("abcdefghijklmnopqrstuvwxyz") for sign in range(chance.randint(1, 8)))
+        if name not in ("sorts", "begin", "in", "out", "rule", "to"):
+            return name
+
+
+def random_rule(chance, many, most):
+    while True:
+        takes, gives = [
+            tuple(chance.choice((0, 0, chance.randint(0, most))) for sort in range(many)) for side in range(2)
+        ]
+        if any(takes) and takes != gives:
+            return (takes, gives)
+
+
+def random_pot(chance, most_sorts=8, most_rules=8, most=9):
+    many = chance.randint(1, most_sorts)
+    names = []
+    while len(names) < many:
+        name = random_name(chance)
+        if name not in names:
+            names.append(name)
+    rules = tuple(random_rule(chance, many, most) for rule in range(chance.randint(0, most_rules)))
+    inputs = tuple(chance.sample(range(many), chance.randint(0, min(3, many))))
+    begin = tuple(chance.choice((0, 1, 9, 10, 99, chance.randint(0, 99))) for sort in range(many))
+    return (tuple(names), rules, inputs, begin, chance.randrange(many))
+
+
+def within(thing, path):
+    for place in path:
+        thing = thing[place]
+    return thing
+
+
+def with_other(thing, path, other):
+    """The tuple with what lies at the path put in the place of what was there."""
+    if not path:
+        return other
+    place = path[0]
+    return thing[:place] + (with_other(thing[place], path[1:], other),) + thing[place + 1:]
+
+
+def paths_of(thing):
+    """The paths to all that lies in a tuple, the tuple itself first."""
+    paths = [()]
+    if isinstance(thing, tuple):
+        for place, part in enumerate(thing):
+            paths.extend((place,) + path for path in paths_of(part))
+    return paths
+
+
+def same_kind(one, other):
+    """Alike, and of the very same kinds all through (True is no 1, a list no tuple)."""
+    if type(one) is not type(other):
+        return False
+    if isinstance(one, (list, tuple)):
+        return len(one) == len(other) and all(same_kind(a, b) for a, b in zip(one, other))
+    return one == other
+
+
+def unchanged_by(call, *things):
+    """Whether a call leaves what is handed in as it was; what it refuses is let go by."""
+    kept = copy.deepcopy(things)
+    try:
+        call(*things)
+    except ValueError:
+        pass
+    return same_kind(kept, things)
