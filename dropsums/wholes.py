@@ -20,3 +20,15 @@ def are_counts(many, thing):
 def are_counts_to(high, many, thing):
     """Whether it is a tuple of so many whole numbers from 0 to high."""
     return are_counts(many, thing) and all([count <= high for count in thing])
+
+
+def common_divisor(numbers):
+    """The greatest whole number that divides all of them; 0 where all are 0, or there are none."""
+    divisor = 0
+    for number in numbers:
+        other = abs(number)
+        while other != 0:
+            rest = divisor % other
+            divisor = other
+            other = rest
+    return divisor
