@@ -2,6 +2,7 @@
 
 from dropsums.tableau import Tableau
 from dropsums.weights import is_weights
+from dropsums.wholes import times_added
 
 
 def meets(problem, tops, bottom):
@@ -9,10 +10,6 @@ def meets(problem, tops, bottom):
     if bottom < 1:
         return False
     return all([times_added(by, tops) + plus * bottom >= 0 for by, plus in problem])
-
-
-def times_added(ones, others):
-    return sum([one * other for one, other in zip(ones, others)])
 
 
 def bears(problem, weights):

@@ -10,11 +10,16 @@ def is_whole_within(thing, low, high):
     return is_whole(thing) and low <= thing <= high
 
 
-def are_counts(many, thing):
-    """Whether it is a tuple of so many whole numbers from 0 on."""
+def are_wholes(many, thing):
+    """Whether it is a tuple of so many whole numbers."""
     if not isinstance(thing, tuple) or len(thing) != many:
         return False
-    return all([is_whole(count) and count >= 0 for count in thing])
+    return all([is_whole(number) for number in thing])
+
+
+def are_counts(many, thing):
+    """Whether it is a tuple of so many whole numbers from 0 on."""
+    return are_wholes(many, thing) and all([count >= 0 for count in thing])
 
 
 def are_counts_to(high, many, thing):
@@ -32,3 +37,14 @@ def common_divisor(numbers):
             divisor = other
             other = rest
     return divisor
+
+
+def without_divisor(numbers):
+    """The numbers, what divides all of them taken out; a list."""
+    divisor = common_divisor(numbers)
+    return [number // divisor if divisor > 0 else 0 for number in numbers]
+
+
+def times_added(ones, others):
+    """Each of the ones times its other, added."""
+    return sum([one * other for one, other in zip(ones, others)])

@@ -1,6 +1,7 @@
 """What several tests share: pots to try things on, and wrong things to put into them."""
 
 import copy
+from fractions import Fraction
 
 # Of two inputs the lesser, by one rule; what is left over stays.
 LESSER = (("a", "b", "c"), (((1, 1, 0), (0, 0, 1)),), (0, 1), (0, 0, 0), 2)
@@ -30,6 +31,60 @@ LARGE = (
 )
 
 POTS = (LESSER, HALF, HELPED, STILL, LARGE)
+
+# Twice the one, once the other, and three more.
+SUM = (("a", "b", "y"), (((1, 0, 0), (0, 0, 2)), ((0, 1, 0), (0, 0, 1))), (0, 1), (0, 0, 3), 2)
+
+# Each input's drop leaves its mark and an answer; a pair of marks takes one answer away.
+GREATER = (
+    ("a", "b", "p", "q", "k", "y"),
+    (
+        ((1, 0, 0, 0, 0, 0), (0, 0, 1, 0, 0, 1)),
+        ((0, 1, 0, 0, 0, 0), (0, 0, 0, 1, 0, 1)),
+        ((0, 0, 1, 1, 0, 0), (0, 0, 0, 0, 1, 0)),
+        ((0, 0, 0, 0, 1, 1), (0, 0, 0, 0, 0, 0)),
+    ),
+    (0, 1),
+    (0, 0, 0, 0, 0, 0),
+    5,
+)
+
+# One drop, n or y, says whether there were more a than b among those that are gone.
+MORE = (
+    ("n", "y", "a", "b"),
+    (((1, 0, 1, 0), (0, 1, 0, 0)), ((0, 1, 0, 1), (1, 0, 0, 0))),
+    (2, 3),
+    (1, 0, 0, 0),
+    1,
+)
+
+# One drop says whether as many are gone (e), one a more (p), or one b more (q).
+SAME = (
+    ("e", "p", "q", "a", "b"),
+    (
+        ((1, 0, 0, 1, 0), (0, 1, 0, 0, 0)),
+        ((1, 0, 0, 0, 1), (0, 0, 1, 0, 0)),
+        ((0, 1, 0, 0, 1), (1, 0, 0, 0, 0)),
+        ((0, 0, 1, 1, 0), (1, 0, 0, 0, 0)),
+    ),
+    (3, 4),
+    (1, 0, 0, 0, 0),
+    0,
+)
+
+ONE = ((1, 0), 0)
+OTHER = ((0, 1), 0)
+
+# Pots, and what they reckon.
+RECKONERS = (
+    (SUM, ("sum", ((2, 1), 3))),
+    (HALF, ("part", ((1,), 0), 2)),
+    (LESSER, ("least", ONE, OTHER)),
+    (GREATER, ("most", ONE, OTHER)),
+    (MORE, ("more", ONE, OTHER)),
+    (SAME, ("same", ONE, OTHER)),
+    (STILL, ("sum", ((), 5))),
+)
 
 ODD_THINGS = (
     None, True, False, -1, 10 ** 39, "", "a", "0", "a b", "sorts", [], (), {}, [1], (1,), {"a": 1}, {1: (2,)},
@@ -64,6 +119,38 @@ def random_pot(chance, most_sorts=8, most_rules=8, most=9):
     inputs = tuple(chance.sample(range(many), chance.randint(0, min(3, many))))
     begin = tuple(chance.choice((0, 1, 9, 10, 99, chance.randint(0, 99))) for sort in range(many))
     return (tuple(names), rules, inputs, begin, chance.randrange(many))
+
+
+def random_line(chance, many, most=99):
+    return (tuple(chance.randint(-most, most) for place in range(many)), chance.randint(-most, most))
+
+
+def random_ask(chance, many, most=99):
+    word = chance.choice(("sum", "part", "least", "most", "more", "same"))
+    line = random_line(chance, many, most)
+    if word == "sum":
+        return (word, line)
+    if word == "part":
+        return (word, line, chance.randint(2, 9))
+    return (word, line, random_line(chance, many, most))
+
+
+def added_up(ones, others):
+    return sum(one * other for one, other in zip(ones, others, strict=True))
+
+
+def rank_of(rows):
+    """How many of the rows are not made of others, by fractions."""
+    left = [[Fraction(number) for number in row] for row in rows]
+    rank = 0
+    while left:
+        row = left.pop()
+        place = next((place for place, number in enumerate(row) if number), None)
+        if place is None:
+            continue
+        rank += 1
+        left = [[a - b * other[place] / row[place] for a, b in zip(other, row)] for other in left]
+    return rank
 
 
 def within(thing, path):
