@@ -115,6 +115,10 @@ class TestShuts(unittest.TestCase):
         self.assertIs(shuts(self.forms, ((0, 1), (1, 1), (2, 1), (5, 1))), False)
         self.assertIs(shuts(self.forms, ()), False)
 
+    def test_no_forms(self):
+        for thing in ((), ((0, 1),), None, []):
+            self.assertIs(shuts([], thing), False)
+
     def test_numbers_left_for_an_input_or_a_sort_alone(self):
         forms = [((1, 0), (0, 0), -1), ((0, 1), (0, 0), -1), ((0, 0), (1, 0), -1), ((0, 0), (0, -1), -1)]
         for number in range(4):

@@ -257,9 +257,28 @@ def drawn_from(path):
     return [node.module.split(".")[1] for node in tree.body if isinstance(node, ast.ImportFrom)]
 
 
+def own_values():
+    """The values that objects of the package's classes keep, by name."""
+    names = set()
+    for path in PACKAGE.glob("*.py"):
+        for node in ast.walk(ast.parse(path.read_text(encoding="utf-8"))):
+            if isinstance(node, ast.Attribute) and isinstance(node.ctx, ast.Store):
+                names.add(node.attr)
+    return names
+
+
 class TestLanguage(unittest.TestCase):
     def files(self):
         return sorted(PACKAGE.glob("*.py"))
+
+    def test_own_methods_and_values(self):
+        methods, values = own_methods() - {"__init__"}, own_values()
+        self.assertTrue(methods and values)
+        self.assertEqual(methods & values, set())
+        of_python = {name for kind in (str, int, list, dict, set, bytes) for name in vars(kind)}
+        self.assertEqual((methods | values) & of_python - METHODS, set())
+        free = set("count index title find get join lower upper split strip copy add".split())
+        self.assertEqual(values & (of_python | {"args"}) - free, set())
 
     def test_only_plain_files(self):
         for path in PACKAGE.iterdir():
