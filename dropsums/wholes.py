@@ -48,3 +48,13 @@ def without_divisor(numbers):
 def times_added(ones, others):
     """Each of the ones times its other, added."""
     return sum([one * other for one, other in zip(ones, others)])
+
+
+def counts_together(many, total):
+    """All tuples of so many whole numbers from 0 on that come to the total together, rising."""
+    if many == 0:
+        return [()] if total == 0 else []
+    tuples = []
+    for first in range(total + 1):
+        tuples.extend([(first,) + rest for rest in counts_together(many - 1, total - first)])
+    return tuples

@@ -121,6 +121,26 @@ def random_pot(chance, most_sorts=8, most_rules=8, most=9):
     return (tuple(names), rules, inputs, begin, chance.randrange(many))
 
 
+def sought_rule(chance, many):
+    while True:
+        takes, gives = [0] * many, [0] * many
+        for sort in chance.sample(range(many), min(many, chance.randint(1, 2))):
+            takes[sort] = chance.choice((1, 1, 2))
+        for sort in chance.sample(range(many), min(many, chance.randint(0, 2))):
+            gives[sort] = chance.choice((1, 1, 2))
+        if takes != gives:
+            return (tuple(takes), tuple(gives))
+
+
+def sought_pot(chance):
+    """A drawn pot within the bounds of those of which papers and faults are sought."""
+    many = chance.randint(1, 6)
+    rules = tuple(sought_rule(chance, many) for rule in range(chance.randint(0, 4)))
+    inputs = tuple(chance.sample(range(many), chance.randint(0, min(3, many))))
+    begin = tuple(chance.choice((0, 0, 1, 2)) for sort in range(many))
+    return (tuple("abcdef"[:many]), rules, inputs, begin, chance.randrange(many))
+
+
 def random_line(chance, many, most=99):
     return (tuple(chance.randint(-most, most) for place in range(many)), chance.randint(-most, most))
 
@@ -133,6 +153,21 @@ def random_ask(chance, many, most=99):
     if word == "part":
         return (word, line, chance.randint(2, 9))
     return (word, line, random_line(chance, many, most))
+
+
+def leads(pot, stand):
+    """Where the rules that can go lead, by hand: pairs of rule and stand."""
+    led = []
+    for rule, (takes, gives) in enumerate(pot[1]):
+        if all(count >= taken for count, taken in zip(stand, takes)):
+            led.append((rule, tuple(c - t + g for c, t, g in zip(stand, takes, gives))))
+    return led
+
+
+def begun(pot, amounts):
+    """The beginning by amounts, by hand."""
+    more = dict(zip(pot[2], amounts, strict=True))
+    return tuple(count + more.get(sort, 0) for sort, count in enumerate(pot[3]))
 
 
 def added_up(ones, others):
@@ -174,6 +209,17 @@ def paths_of(thing):
         for place, part in enumerate(thing):
             paths.extend((place,) + path for path in paths_of(part))
     return paths
+
+
+def others_for(part):
+    """Things to put in the place of a part of a right thing."""
+    yield from (None, True, False, "", "shut", "cut", [], {}, (), -1, 0, 1, 2, ((0, 1),), (0, 0), ("shut", ()))
+    if isinstance(part, tuple):
+        yield from (list(part), part[:-1], part[1:], part + part[-1:], part[::-1], part + (None,))
+    if isinstance(part, int):
+        yield from (part + 1, part - 1, -part, 10 ** 39 + part, str(part), (part,))
+    if isinstance(part, str):
+        yield from ("lacks", "right", part + " ", part.upper())
 
 
 def same_kind(one, other):

@@ -8,7 +8,8 @@ from dropsums.errors import NoPaper
 from dropsums.finding import paper_for
 from dropsums.pots import beginning
 from helper import (
-    HALF, LESSER, MORE, ODD_THINGS, RECKONERS, SAME, STILL, paths_of, same_kind, unchanged_by, with_other, within,
+    HALF, LESSER, MORE, ODD_THINGS, RECKONERS, SAME, STILL, others_for, paths_of, same_kind, unchanged_by, with_other,
+    within,
 )
 
 SORTS, RULES, INPUTS, BEGIN = range(4)
@@ -345,15 +346,6 @@ class TestRefused(unittest.TestCase):
 class TestAnyPaper(unittest.TestCase):
     """Right papers with one thing otherwise at each place, looked at twice."""
 
-    def others(self, chance, part):
-        yield from (None, True, False, "", "shut", "cut", [], {}, (), -1, 0, 1, 2, ((0, 1),), (0, 0), ("shut", ()))
-        if isinstance(part, tuple):
-            yield from (list(part), part[:-1], part[1:], part + part[-1:], part[::-1], part + (None,))
-        if isinstance(part, int):
-            yield from (part + 1, part - 1, -part, 10 ** 39 + part, str(part), (part,))
-        if isinstance(part, str):
-            yield from ("lacks", "right", part + " ", part.upper())
-
     def told(self, pot, ask, thing):
         try:
             return None if lets_paper(pot, ask, thing) is True else "no"
@@ -361,12 +353,11 @@ class TestAnyPaper(unittest.TestCase):
             return (refusal.word, refusal.at)
 
     def test_one_thing_otherwise(self):
-        chance = random.Random(71)
         words = []
         for pot, ask, paper in papers():
             looked = Looked(pot, ask)
             for path in paths_of(paper):
-                for other in self.others(chance, within(paper, path)):
+                for other in others_for(within(paper, path)):
                     thing = with_other(paper, path, other)
                     told = self.told(pot, ask, thing)
                     self.assertTrue(same_kind(told, looked.fault(thing)), (thing, told))

@@ -6,9 +6,9 @@ from dropsums.coming import all_from, can_come, ended_of, orders_from
 from dropsums.orders import walked
 from dropsums.pots import beginning
 from dropsums.steps import has_ended
-from helper import GREATER, HALF, HELPED, LESSER, MORE, SAME, STILL, random_pot, same_kind, unchanged_by
+from helper import GREATER, HALF, HELPED, LESSER, MORE, SAME, STILL, leads, random_pot, same_kind, unchanged_by
 
-SORTS, RULES = 0, 1
+SORTS = 0
 
 # An a becomes a b or a c; b and c become one another; two c become a d.
 FORKS = (
@@ -23,15 +23,6 @@ FORKS = (
 )
 GROWS = (("a",), (((1,), (2,)),), (), (1,), 0)
 CHAIN = (("a", "b"), (((1, 0), (0, 1)),), (0,), (0, 0), 1)
-
-
-def leads(pot, stand):
-    """Where the rules that can go lead, by hand: pairs of rule and stand."""
-    led = []
-    for rule, (takes, gives) in enumerate(pot[RULES]):
-        if all(count >= taken for count, taken in zip(stand, takes)):
-            led.append((rule, tuple(c - t + g for c, t, g in zip(stand, takes, gives))))
-    return led
 
 
 def come(pot, stand, most):

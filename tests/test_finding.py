@@ -12,8 +12,8 @@ from dropsums.pots import beginning
 from dropsums.staying import all_kept
 from dropsums.weighing import bears, meets, weighed
 from helper import (
-    GREATER, HALF, LESSER, MORE, RECKONERS, SAME, STILL, SUM, paths_of, random_ask, same_kind, unchanged_by, with_other,
-    within,
+    GREATER, HALF, LESSER, MORE, RECKONERS, SAME, STILL, SUM, paths_of, random_ask, same_kind, sought_pot, unchanged_by,
+    with_other, within,
 )
 
 SORTS, RULES, INPUTS, BEGIN, ANSWER = range(5)
@@ -277,23 +277,6 @@ class TestPots(Told):
 
 
 class TestAnyPot(Told):
-    def random_rule(self, chance, many):
-        while True:
-            takes, gives = [0] * many, [0] * many
-            for sort in chance.sample(range(many), min(many, chance.randint(1, 2))):
-                takes[sort] = chance.choice((1, 1, 2))
-            for sort in chance.sample(range(many), min(many, chance.randint(0, 2))):
-                gives[sort] = chance.choice((1, 1, 2))
-            if takes != gives:
-                return (tuple(takes), tuple(gives))
-
-    def random_pot(self, chance):
-        many = chance.randint(1, 6)
-        rules = tuple(self.random_rule(chance, many) for rule in range(chance.randint(0, 4)))
-        inputs = tuple(chance.sample(range(many), chance.randint(0, min(3, many))))
-        begin = tuple(chance.choice((0, 0, 1, 2)) for sort in range(many))
-        return (tuple("abcdef"[:many]), rules, inputs, begin, chance.randrange(many))
-
     def fitting_asks(self, pot):
         """Asks that fit some small beginnings of the pot, so that some of them are kept."""
         ends = {}
@@ -313,14 +296,14 @@ class TestAnyPot(Told):
     def test_any_pot(self):
         chance = random.Random(90)
         for turn in range(250):
-            pot = self.random_pot(chance)
+            pot = sought_pot(chance)
             self.told_rightly(chance, pot, random_ask(chance, len(pot[INPUTS]), 2))
 
     def test_asks_that_fit(self):
         chance = random.Random(91)
         answers = []
         for turn in range(500):
-            pot = self.random_pot(chance)
+            pot = sought_pot(chance)
             asks = self.fitting_asks(pot)
             for ask in chance.sample(asks, min(3, len(asks))):
                 answers.append(self.told_rightly(chance, pot, ask))
