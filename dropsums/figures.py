@@ -44,3 +44,8 @@ def shown_whole(number):
         behind = str(left % PART_SIZE).zfill(PART) + behind
         left = left // PART_SIZE
     return str(left) + behind
+
+
+def shown_wholes(numbers):
+    """The words that write the numbers, parted by single blanks."""
+    return " ".join([shown_whole(number) for number in numbers])

@@ -2,7 +2,7 @@
 
 from dropsums.asks import pieces_of
 from dropsums.errors import NoLines
-from dropsums.figures import is_figures, is_signed_figures, shown_whole, whole_of
+from dropsums.figures import is_figures, is_signed_figures, shown_whole, shown_wholes, whole_of
 from dropsums.papers import HEIGHTS, KEPTS, MOST_KEPTS, MOST_TREES, MOST_WITHIN, TREE
 from dropsums.papers import is_right, sorts_taken, trees_within
 from dropsums.pots import RULES, SORTS
@@ -11,13 +11,9 @@ from dropsums.weights import is_weights
 
 def shown_paper(paper):
     """The paper as a list of lines."""
-    lines = [in_a_row("kept", kept) for kept in paper[KEPTS]]
-    lines.append(in_a_row("height", paper[HEIGHTS]))
+    lines = ["kept " + shown_wholes(kept) for kept in paper[KEPTS]]
+    lines.append("height " + shown_wholes(paper[HEIGHTS]))
     return lines + shown_tree(paper[TREE])
-
-
-def in_a_row(first, numbers):
-    return " ".join([first] + [shown_whole(number) for number in numbers])
 
 
 def shown_tree(tree):
@@ -31,12 +27,12 @@ def shown_tree(tree):
 def shown_head(tree):
     """The line of the tree alone."""
     if tree[0] == "lacks":
-        return in_a_row("lacks", tree[1:2])
+        return "lacks " + shown_whole(tree[1])
     if tree[0] == "cut":
-        return in_a_row("cut", tree[1:3])
+        return "cut " + shown_wholes(tree[1:3])
     if tree[0] == "shut":
         return " ".join(["shut"] + shown_weights(tree[1]))
-    words = [in_a_row("right", tree[1:2])]
+    words = ["right", shown_whole(tree[1])]
     for ground in tree[2]:
         words.extend(["/"] + shown_weights(ground))
     return " ".join(words)

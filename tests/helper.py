@@ -86,6 +86,30 @@ RECKONERS = (
     (STILL, ("sum", ((), 5))),
 )
 
+# Its answer never changes, but two sorts become one another for ever.
+BACK = (("a", "b", "y"), (((1, 0, 0), (0, 1, 0)), ((0, 1, 0), (1, 0, 0))), (0,), (0, 0, 5), 2)
+
+# Its answer grows for ever.
+GROWS = (("a", "y"), (((1, 0), (1, 1)),), (), (1, 0), 1)
+
+# From a drop of a comes a y, or a b, which becomes a c and a b again for ever.
+LOST = (
+    ("a", "b", "c", "y"),
+    (
+        ((1, 0, 0, 0), (0, 0, 0, 1)), ((1, 0, 0, 0), (0, 1, 0, 0)), ((0, 1, 0, 0), (0, 0, 1, 0)),
+        ((0, 0, 1, 0), (0, 1, 0, 0)),
+    ),
+    (0,),
+    (0, 0, 0, 0),
+    3,
+)
+
+# The answer itself helps: that its one drop never goes what stays can't tell.
+OWN = (("a", "y"), (((1, 1), (0, 2)),), (0,), (0, 1), 1)
+
+# 21 times 20 stands come, whatever the order.
+WIDE = (("a", "b", "c", "d"), (((1, 0, 0, 0), (0, 1, 0, 0)), ((0, 0, 1, 0), (0, 0, 0, 1))), (), (20, 0, 19, 0), 1)
+
 ODD_THINGS = (
     None, True, False, -1, 10 ** 39, "", "a", "0", "a b", "sorts", [], (), {}, [1], (1,), {"a": 1}, {1: (2,)},
     ((),), [[]], (None,), ("a",), ("a", "b"), ((1, 0), (0, 1)), "\n",

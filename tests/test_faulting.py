@@ -6,8 +6,8 @@ from dropsums.asks import asked
 from dropsums.faultchecker import lets_fault
 from dropsums.faulting import fault_of, small_amounts
 from helper import (
-    GREATER, HALF, HELPED, LESSER, MORE, RECKONERS, SAME, STILL, SUM, begun, leads, paths_of, random_ask, same_kind,
-    sought_pot, unchanged_by, with_other, within,
+    BACK, GREATER, GROWS, HALF, HELPED, LESSER, LOST, MORE, RECKONERS, SAME, STILL, SUM, begun, leads, paths_of,
+    random_ask, same_kind, sought_pot, unchanged_by, with_other, within,
 )
 
 SORTS, RULES, INPUTS, BEGIN, ANSWER = range(5)
@@ -25,9 +25,6 @@ GRID = (
     1,
 )
 GRID_AND_ONE = with_other(GRID, (BEGIN,), (19, 0, 19, 0, 1, 0))
-
-BACK = (("a", "b", "y"), (((1, 0, 0), (0, 1, 0)), ((0, 1, 0), (1, 0, 0))), (0,), (0, 0, 5), 2)
-GROWS = (("a", "y"), (((1, 0), (1, 1)),), (), (1, 0), 1)
 
 
 def come(pot, stand, most):
@@ -147,18 +144,9 @@ class TestFaultOf(Told):
         self.assertEqual(self.told(with_other(BACK, (BEGIN, 0), 1), ("sum", ((-1,), 0))), "never")
 
     def test_pots_that_get_lost(self):
-        # a becomes y, or goes to b, which goes round with c and never comes back.
-        pot = (
-            ("a", "b", "c", "y"),
-            (((1, 0, 0, 0), (0, 0, 0, 1)), ((1, 0, 0, 0), (0, 1, 0, 0)), ((0, 1, 0, 0), (0, 0, 1, 0)),
-             ((0, 0, 1, 0), (0, 1, 0, 0))),
-            (0,),
-            (0, 0, 0, 0),
-            3,
-        )
-        self.assertEqual(self.told(pot, ("sum", ((1,), 0))), "never")
+        self.assertEqual(self.told(LOST, ("sum", ((1,), 0))), "never")
         # Where b becomes a again nothing is lost.
-        back = with_other(pot, (RULES, 3, 1), (1, 0, 0, 0))
+        back = with_other(LOST, (RULES, 3, 1), (1, 0, 0, 0))
         self.assertIsNone(self.told(back, ("sum", ((1,), 0))))
 
     def test_answers_on_the_way_that_do_not_stay(self):

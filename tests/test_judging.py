@@ -8,20 +8,11 @@ from dropsums.faulting import fault_of
 from dropsums.finding import paper_for
 from dropsums.judging import judged
 from helper import (
-    HALF, LESSER, MORE, RECKONERS, SAME, STILL, random_ask, same_kind, sought_pot, unchanged_by, with_other,
+    BACK, GROWS, HALF, LESSER, MORE, OWN, RECKONERS, SAME, STILL, WIDE, random_ask, same_kind, sought_pot, unchanged_by,
+    with_other,
 )
 
 RULES, INPUTS, BEGIN = 1, 2, 3
-
-# Its answer never changes, but two sorts become one another for ever.
-BACK = (("a", "b", "y"), (((1, 0, 0), (0, 1, 0)), ((0, 1, 0), (1, 0, 0))), (0,), (0, 0, 5), 2)
-GROWS = (("a", "y"), (((1, 0), (1, 1)),), (), (1, 0), 1)
-
-# The answer itself helps: that its one drop never goes what stays can't tell.
-OWN = (("a", "y"), (((1, 1), (0, 2)),), (0,), (0, 1), 1)
-
-# 21 times 20 stands, ended wrongly.
-WIDE = (("a", "b", "c", "d"), (((1, 0, 0, 0), (0, 1, 0, 0)), ((0, 0, 1, 0), (0, 0, 0, 1))), (), (20, 0, 19, 0), 1)
 
 
 class TestJudged(unittest.TestCase):
